@@ -1,0 +1,73 @@
+"""What the tests share: things of every kind, and the asking for an error with what it keeps."""
+
+import unittest
+
+from firstmet.errors import MetError
+from firstmet.programs import Program
+from firstmet.tables import Shape, Store
+
+SALES = Shape((("sale", ("item", "many")), ("price", ("item", "cost"))))
+
+
+def nested(kind, deep):
+    """An empty row in rows of this kind, so deep."""
+    thing = kind()
+    for _ in range(deep):
+        thing = kind([thing])
+    return thing
+
+
+def nested_dict(deep):
+    thing = {}
+    for _ in range(deep):
+        thing = {"a": thing}
+    return thing
+
+
+def nested_bodies(deep):
+    """A statement with bodies in bodies, so many."""
+    statement = ("put", "paid", (1,), ((),))
+    for _ in range(deep):
+        statement = ("same", 1, 1, (statement,))
+    return statement
+
+
+def anything():
+    """Things of every kind that a caller may give where an error is named."""
+    return [
+        None, True, False, 0, 1, -1, 2, 300, 10 ** 9, 10 ** 40, -10 ** 40,
+        "", "a", "sale", "Sale", "sale ", "a b", "ab\n", "\t", "\n", "~", " ", "a1", "abcdefghi", "a" * 1000,
+        [], (), {}, [[]], [()], ((),), [1], (1,), [True], ("a",), ["a"], (None,), {"a": 1}, {1: 2}, {None: []},
+        ("of",), ("of", "r", "item"), ("put", "paid", (1,), ((),)), ("scan", "r", "sale"), (1, ()),
+        (("sale", ("item",)),),
+        nested(list, 29), nested(tuple, 29), nested_dict(29), nested_bodies(60), (nested_bodies(60),),
+        SALES, Store(SALES, {}), Program(SALES, (("paid", (), ("n",)),), (("put", "paid", (), ((),)),)), MetError(),
+    ]
+
+
+class Case(unittest.TestCase):
+    def raises(self, error, kept, call, *given):
+        """The call raises just this error, which keeps just this, and leaves what it was given as it was."""
+        before = repr(given)
+        with self.assertRaises(MetError) as caught:
+            call(*given)
+        self.assertEqual(repr(given), before)
+        self.assertIs(caught.exception.__class__, error)
+        what = list(vars(caught.exception).values())
+        self.assertEqual(what, kept)
+        self.assertEqual(repr(what), repr(kept))
+
+    def leaves_alone(self, call, *given):
+        """What the call returns; it leaves what it was given as it was."""
+        before = repr(given)
+        told = call(*given)
+        self.assertEqual(repr(given), before)
+        return told
+
+    def equals_nothing_else(self, thing, others):
+        for other in others:
+            with self.subTest(other=other):
+                self.assertFalse(thing == other)
+                self.assertFalse(other == thing)
+                self.assertTrue(thing != other)
+                self.assertIs(thing == other, False)
