@@ -71,3 +71,61 @@ class Case(unittest.TestCase):
                 self.assertFalse(other == thing)
                 self.assertTrue(thing != other)
                 self.assertIs(thing == other, False)
+
+
+def of(v, f):
+    return ("of", v, f)
+
+
+def scan(v, table, *body):
+    return ("scan", v, table, body)
+
+
+def by(v, table, field, *body):
+    """A run; that word stands for what a program does."""
+    return ("run", v, table, field, body)
+
+
+def seek(v, table, field, term, *body):
+    return ("seek", v, table, field, term, body)
+
+
+def each(v, block, *body):
+    return ("each", v, block, body)
+
+
+def rise(v, block, key, *body):
+    return ("rise", v, block, key, body)
+
+
+def look(v, block, terms, *body):
+    return ("look", v, block, tuple(terms), body)
+
+
+def same(left, right, *body):
+    return ("same", left, right, body)
+
+
+def put(block, terms, *adds):
+    return ("put", block, tuple(terms), tuple([tuple(products) for products in adds]))
+
+
+def times(multiple, *factors):
+    return (multiple, factors)
+
+
+def spoiled(paper):
+    """Things that are like the paper, a tuple of integers and tuples, but for one thing that makes them wrong."""
+    yield list(paper)
+    yield (*paper, None)
+    yield (*paper, ())
+    for at, part in enumerate(paper):
+        yield paper[:at] + paper[at + 1:]
+        yield paper[:at] + (part, part) + paper[at + 1:]
+        for thing in (None, True, -1, 10 ** 6, "", [], {}, (part,), [part], str(part), SALES):
+            yield paper[:at] + (thing,) + paper[at + 1:]
+        if isinstance(part, tuple):
+            for thing in spoiled(part):
+                yield paper[:at] + (thing,) + paper[at + 1:]
+        else:
+            yield paper[:at] + (part == 1,) + paper[at + 1:]

@@ -10,6 +10,10 @@ BUILTINS = """len range enumerate zip min max sum abs sorted reversed int str bo
 isinstance ord repr any all divmod pow getattr hasattr setattr iter next map type super property staticmethod classmethod
 Exception ValueError TypeError KeyError IndexError LookupError ZeroDivisionError ArithmeticError OverflowError
 RuntimeError NotImplementedError AttributeError StopIteration NotImplemented""".split()
+METHODS = """append clear copy count endswith extend find get index insert isalnum isalpha isdigit islower isspace isupper
+items join keys ljust lower lstrip partition pop remove replace reverse rfind rjust rpartition rsplit rstrip setdefault
+split splitlines startswith strip update upper values zfill bit_length""".split()
+UNSTORED = ("range", "zip", "enumerate", "reversed")
 TAKE_LISTS = ("any", "all", "min", "max", "sum", "sorted")
 BARRED = (ast.AsyncFunctionDef, ast.AsyncFor, ast.AsyncWith, ast.Await, ast.Import, ast.Div)
 
@@ -51,6 +55,7 @@ class Language(unittest.TestCase):
 
     def test_imports_name_the_file_that_defines(self):
         defined = {name: [node.name for node in tree.body if isinstance(node, (ast.FunctionDef, ast.ClassDef))]
+                   + [target.id for node in tree.body if isinstance(node, ast.Assign) for target in node.targets]
                    for name, tree in trees()}
         for _, tree in trees():
             for node in imports(tree):
@@ -96,6 +101,41 @@ class Language(unittest.TestCase):
             for node in ast.walk(tree):
                 if isinstance(node, ast.Call) and isinstance(node.func, ast.Name) and node.func.id in TAKE_LISTS:
                     self.assertNotIn(ast.GeneratorExp, [given.__class__ for given in node.args], name)
+
+    def test_no_name_of_an_import_or_a_class_means_something_else(self):
+        for name, tree in trees():
+            taken = [node.name for node in ast.walk(tree) if isinstance(node, ast.ClassDef)]
+            taken += [alias.name for node in imports(tree) for alias in node.names]
+            for node in ast.walk(tree):
+                if isinstance(node, ast.Name) and isinstance(node.ctx, ast.Store):
+                    self.assertNotIn(node.id, taken, name)
+                if isinstance(node, ast.arg):
+                    self.assertNotIn(node.arg, taken, name)
+
+    def test_methods_that_are_called(self):
+        own = [function.name for _, tree in trees() for function in functions(tree)]
+        for name, tree in trees():
+            for node in ast.walk(tree):
+                if isinstance(node, ast.Call) and isinstance(node.func, ast.Attribute):
+                    self.assertIn(node.func.attr, METHODS + own, name)
+
+    def test_methods_and_attributes_have_unlike_names(self):
+        for name, tree in trees():
+            for node in ast.walk(tree):
+                if isinstance(node, ast.ClassDef):
+                    methods = [function.name for function in functions(node)]
+                    attributes = [part.attr for part in ast.walk(node)
+                                  if isinstance(part, ast.Attribute) and isinstance(part.ctx, ast.Store)]
+                    self.assertEqual(set(methods) & set(attributes), set(), name)
+                    self.assertEqual(len(set(methods)), len(methods), name)
+                    self.assertEqual(set(attributes) & set(METHODS) - {"count", "index", "find", "get", "copy"}, set())
+
+    def test_what_is_to_be_gone_through_at_once_is_not_stored(self):
+        for name, tree in trees():
+            for node in ast.walk(tree):
+                if isinstance(node, (ast.Assign, ast.Return)) and isinstance(node.value, ast.Call):
+                    if isinstance(node.value.func, ast.Name):
+                        self.assertNotIn(node.value.func.id, UNSTORED, name)
 
     def test_strings(self):
         for name, tree in trees():
