@@ -38,8 +38,6 @@ class Draft:
     def make_one(self, one, other):
         """Make two marks one."""
         head, behind = self.head_of(one), self.head_of(other)
-        if head == behind:
-            return
         self._next[behind] = head
         if behind in self._given:
             value = self._given[behind]
@@ -194,10 +192,8 @@ def told_rows(rows, symbols):
 
 def fields_of_block(program, block):
     """The tuples of the keys and of the sums of the block."""
-    for name, keys, sums in program.blocks:
-        if name == block:
-            return (keys, sums)
-    return ((), ())
+    fields = {name: (keys, sums) for name, keys, sums in program.blocks}
+    return fields[block]
 
 
 def paths_to(body, block):

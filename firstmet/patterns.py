@@ -188,13 +188,21 @@ def map_from(rows, others, images):
     """A map of the rows into the others, by which the symbols with images go over into these; None if there is none."""
     if len(rows) == 0:
         return ()
-    table, symbols = rows[0]
-    for at, (place, there) in enumerate(others):
-        more = extended(images, symbols, there) if place == table else None
-        rest = map_from(rows[1:], others, more) if more is not None else None
+    # A row that can go nowhere is found here, and not only after all choices for the rows ahead of it.
+    if not all([places_of(row, others, images) != [] for row in rows]):
+        return None
+    for at in places_of(rows[0], others, images):
+        rest = map_from(rows[1:], others, extended(images, rows[0][1], others[at][1]))
         if rest is not None:
             return (at, *rest)
     return None
+
+
+def places_of(row, others, images):
+    """The list of the indexes of those of the others that the row can go to."""
+    table, symbols = row
+    return [at for at, (place, there) in enumerate(others)
+            if place == table and extended(images, symbols, there) is not None]
 
 
 def is_map(rows, group, others, other_group, thing):
@@ -255,7 +263,7 @@ def row_traits(pattern):
 
 
 def pairing(one, other):
-    """For each row of the one pattern the index of its row in the other one, None if they differ not by names alone."""
+    """For each row of the one pattern the index of its row in the other, None if they differ by more than names."""
     check_pattern(one)
     check_pattern(other)
     found = Pairings(one, other, 1).found

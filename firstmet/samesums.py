@@ -98,12 +98,14 @@ def multiple_of(pattern, others):
 class Parting:
     """Looks for a store on which the sum that these patterns tell is not 0 for some key.
 
-    It has the rows of a LEADING pattern, each so and so often, with a value of its own for each unknown. There the sum
-    for the key that the group is then is a POLYNOMIAL in these numbers and values, a dict from tuples of exponents to
-    what they are multiplied with. A pattern with fewer rows, or with fewer unknowns, meets no way of the leading one
-    that goes through each row just as the leading one does. So what these ways come to is told by the pairings of the
-    leading pattern with those that differ from it by powers alone; where the values make this not 0, numbers are left
-    that make the sum not 0.
+    The store has the rows of a LEADING pattern, each so and so often, with a value of its own for each unknown, and
+    the key is what the group is there. So the sum is a POLYNOMIAL in these numbers and values, told by a dict from
+    tuples of exponents to what they are multiplied with.
+
+    Only a pattern that differs from the leading one in its powers alone, if at all, meets each row just as often as
+    that one does: any other one has fewer rows, or fewer unknowns, or rows that do not fit. So values are taken first
+    that make not 0 what these patterns come to, and with them numbers are left that make the whole sum not 0. A
+    polynomial that is not 0 stays so for all but a few values of a variable; the least ones that will do are taken.
     """
 
     def __init__(self, patterns, used):

@@ -89,9 +89,11 @@ class Pairs(Case):
         self.all_raise(BadProgram, [7], made([deep(7, out(1))]), 7)
         bigger = Shape((*SHAPE.tables[:4], ("y", ("z",))))
         body = [put("out", [1] * 2, [], [])]
-        pairs = [(right, made([out(1)], shape=bigger)), (right, made([out(1, 1)], many=2)), (right, made([out()], many=0)),
+        pairs = [(right, made([out(1)], shape=bigger)), (right, made([out(1, 1)], many=2)),
+            (right, made([out()], many=0)),
                  (made(body, many=2, sums=2), made([put("out", [1], [], [], [])], sums=3)),
-                 (right, made([put("out", [1], [], [])], sums=2)), (made([deep(7, out(1, adds=[(1, ())]))]), made(body, many=2,
+                 (right, made([put("out", [1], [], [])], sums=2)),
+                     (made([deep(7, out(1, adds=[(1, ())]))]), made(body, many=2,
                                                                                                                sums=2))]
         for one, other in pairs:
             self.all_raise(BadPair, [other], one, other)

@@ -128,4 +128,5 @@ def spoiled(paper):
             for thing in spoiled(part):
                 yield paper[:at] + (thing,) + paper[at + 1:]
         else:
-            yield paper[:at] + (part == 1,) + paper[at + 1:]
+            for thing in (part == 1, part + 1, part - 1):
+                yield paper[:at] + (thing,) + paper[at + 1:]

@@ -50,7 +50,8 @@ class Alike(Alikes):
             times(1, of("r", "b"), of("s", "c")), times(2, of("s", "c"), of("r", "b"))])))]))
         fill = scan("s", "u", put("h", [of("s", "a")], [times(1, of("s", "c"))]))
         add = [times(3, of("e", "s"), of("r", "b"))]
-        self.are_same(one, made([fill, scan("r", "t", look("e", "h", [of("r", "a")], out(of("r", "b"), adds=add)))], HELD))
+        self.are_same(one, made([fill, scan("r", "t", look("e", "h", [of("r", "a")], out(of("r", "b"), adds=add)))],
+            HELD))
         self.are_same(one, made([fill, scan("r", "t", rise("e", "h", "g", same(of("e", "g"), of("r", "a"), out(
             of("r", "b"), adds=add))))], HELD))
 
@@ -92,7 +93,8 @@ class Papers(Alikes):
         one, other = made([X, Y]), made([X, scan("p", "y", out(of("p", "b"), adds=[times(1, of("p", "b"))]))])
         order, sums = order_paper(one, other), sums_paper(one, other)
         self.only_paper(one, other, (order, sums))
-        for thing in (order, sums, (sums, order), (order,), (sums,), (order, order), (sums, sums), (order, None), (None, sums),
+        for thing in (order, sums, (sums, order), (order,), (sums,), (order, order), (sums, sums), (order, None),
+            (None, sums),
                       (order, sums, ()), [order, sums], (list(order), sums), (order, list(sums))):
             self.assertIs(is_alike_paper(one, other, thing), False)
 
@@ -200,13 +202,16 @@ class Example(Alikes):
         return put("paid", [of("s", "item")], self.ADD if adds is None else adds)
 
     def test_the_example(self):
-        plain = self.program([scan("s", "sale", scan("p", "price", same(of("s", "item"), of("p", "item"), self.paid())))])
+        plain = self.program([scan("s", "sale", scan("p", "price",
+            same(of("s", "item"), of("p", "item"), self.paid())))])
         sought = self.program([scan("s", "sale", seek("p", "price", "item", of("s", "item"), self.paid()))])
         held = self.program([
             scan("p", "price", put("held", [of("p", "item")], [times(1, of("p", "cost"))])),
-            scan("s", "sale", look("p", "held", [of("s", "item")], self.paid([times(1, of("s", "many"), of("p", "s"))])))],
+            scan("s", "sale", look("p", "held", [of("s", "item")],
+                self.paid([times(1, of("s", "many"), of("p", "s"))])))],
             ("held", ("item",), ("s",)))
-        turned = self.program([scan("p", "price", scan("s", "sale", same(of("s", "item"), of("p", "item"), self.paid())))])
+        turned = self.program([scan("p", "price", scan("s", "sale",
+            same(of("s", "item"), of("p", "item"), self.paid())))])
         for one in (plain, sought, held):
             for other in (plain, sought, held):
                 self.only_paper(one, other, (((0, 0, (0, 1)),), (((0, 0, (0, 1)),),)))
@@ -241,7 +246,8 @@ class Drawn(Alikes):
 
     def test_each(self):
         self.are_same(made([scan("r", "t", put("h", [of("r", "a")], [times(1)])), each("e", "h", out(
-            of("e", "g"), adds=[times(1, of("e", "s"))]))], HELD), made([scan("r", "t", out(of("r", "a"), adds=[times(1)]))]))
+            of("e", "g"), adds=[times(1, of("e", "s"))]))], HELD),
+                made([scan("r", "t", out(of("r", "a"), adds=[times(1)]))]))
 
 
 if __name__ == "__main__":

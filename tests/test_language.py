@@ -7,12 +7,12 @@ import unittest
 
 PACKAGE = pathlib.Path(__file__).resolve().parent.parent / "firstmet"
 BUILTINS = """len range enumerate zip min max sum abs sorted reversed int str bool bytes list tuple dict set frozenset
-isinstance ord repr any all divmod pow getattr hasattr setattr iter next map type super property staticmethod classmethod
-Exception ValueError TypeError KeyError IndexError LookupError ZeroDivisionError ArithmeticError OverflowError
-RuntimeError NotImplementedError AttributeError StopIteration NotImplemented""".split()
-METHODS = """append clear copy count endswith extend find get index insert isalnum isalpha isdigit islower isspace isupper
-items join keys ljust lower lstrip partition pop remove replace reverse rfind rjust rpartition rsplit rstrip setdefault
-split splitlines startswith strip update upper values zfill bit_length""".split()
+isinstance ord repr any all divmod pow getattr hasattr setattr iter next map type super property staticmethod
+classmethod Exception ValueError TypeError KeyError IndexError LookupError ZeroDivisionError ArithmeticError
+OverflowError RuntimeError NotImplementedError AttributeError StopIteration NotImplemented""".split()
+METHODS = """append clear copy count endswith extend find get index insert isalnum isalpha isdigit islower isspace
+isupper items join keys ljust lower lstrip partition pop remove replace reverse rfind rjust rpartition rsplit rstrip
+setdefault split splitlines startswith strip update upper values zfill bit_length""".split()
 UNSTORED = ("range", "zip", "enumerate", "reversed")
 TAKE_LISTS = ("any", "all", "min", "max", "sum", "sorted")
 BARRED = (ast.AsyncFunctionDef, ast.AsyncFor, ast.AsyncWith, ast.Await, ast.Import, ast.Div)

@@ -71,7 +71,8 @@ class RowsAndWords(Case16):
         self.is_nest((T,), ("a",), (("row", 0),), [scan("r", "t", same(3, 3, same(of("r", "a"), of("r", "a"),
                                                                                      out(of("r", "a")))))])
         self.is_nest((("t", (4, "a")), ("u", ("a", 4))), (4,), (("row", 0), ("row", 1)),
-                     [scan("r", "t", scan("s", "u", same(of("r", "a"), of("s", "c"), same(of("r", "b"), of("s", "a"), same(
+                     [scan("r", "t", scan("s", "u", same(of("r", "a"), of("s", "c"),
+                         same(of("r", "b"), of("s", "a"), same(
                          4, of("s", "c"), out(of("r", "a")))))))])
 
     def test_unknowns_that_a_given_value_joins(self):
@@ -89,7 +90,8 @@ class RowsAndWords(Case16):
 
     def test_names_follow_the_rows(self):
         self.is_nest((("w", ("a", "b", "c")), ("t", ("c", "d"))), ("d", "a"), (("row", 0), ("value", "d"), ("row", 1)),
-                     [scan("p", "w", by("q", "t", "b", same(of("q", "a"), of("p", "f"), out(of("q", "b"), of("p", "d")))))])
+                     [scan("p", "w", by("q", "t", "b", same(of("q", "a"), of("p", "f"),
+                         out(of("q", "b"), of("p", "d")))))])
 
     def test_several_nests_in_the_order_of_their_top_statements(self):
         body = [scan("r", "x", out(of("r", "b"))), out(3), scan("r", "x", scan("s", "t", out(of("s", "b")))),
@@ -109,12 +111,14 @@ class RowsAndWords(Case16):
 
 
 class Blocks(Case16):
-    FILL = by("r", "t", "b", scan("s", "u", same(of("r", "a"), of("s", "a"), put("h", [of("r", "b"), of("s", "c")], []))))
+    FILL = by("r", "t", "b", scan("s", "u", same(of("r", "a"), of("s", "a"),
+        put("h", [of("r", "b"), of("s", "c")], []))))
     ROWS = (("t", ("a", "b")), ("u", ("a", "c")))
     WORD = (("value", "b"), ("row", 0), ("row", 1))
 
     def test_each(self):
-        self.is_nest(self.ROWS, ("c", "b"), self.WORD, [self.FILL, each("e", "h", out_of("e", of("e", "i"), of("e", "g")))],
+        self.is_nest(self.ROWS, ("c", "b"), self.WORD, [self.FILL,
+            each("e", "h", out_of("e", of("e", "i"), of("e", "g")))],
                      HELD)
 
     def test_each_behind_other_rows(self):
@@ -144,7 +148,8 @@ class Blocks(Case16):
         rows = (("t", ("a", "b")), ("u", ("a", "c")), ("t", ("d", "b")), ("u", ("d", "e")))
         word = (*self.WORD, ("value", "e"), ("value", "b"), ("row", 2), ("row", 3))
         self.is_nest(rows, ("c", "e"), word, [self.FILL, each("e", "h", rise("f", "h", "i", same(
-            of("e", "g"), of("f", "g"), put("out", [of("e", "i"), of("f", "i")], [times(1, of("e", "s"), of("f", "s"))]))))],
+            of("e", "g"), of("f", "g"), put("out", [of("e", "i"), of("f", "i")],
+                [times(1, of("e", "s"), of("f", "s"))]))))],
                      HELD)
 
     def test_one_block_through_another(self):
@@ -190,8 +195,12 @@ class Empty(Case16):
         for reader in (each("e", "h", out_of("e", of("e", "g"))), rise("e", "h", "g", out_of("e", 1)),
                        look("e", "h", [1, 1], out_of("e", 1)), scan("q", "x", each("e", "h", out_of("e", 1)))):
             self.empty([fill, reader], HELD)
+        other = ("o", ("j",), ("s",))
         self.empty([fill, each("e", "h", put("o", [1], [times(1, of("e", "s"))])), each("e", "o", out_of("e", 1))],
-                   HELD, ("o", ("j",), ("s",)))
+                   HELD, other)
+        both = put("out", [1], [times(1, of("e", "s"), of("f", "s"))])
+        self.empty([fill, put("o", [1], []), each("e", "h", each("f", "o", both))], HELD, other)
+        self.empty([fill, put("o", [1], []), each("f", "o", each("e", "h", both))], HELD, other)
 
     def test_others_stay(self):
         body = [same(1, 2, out(1)), scan("r", "x", out(of("r", "b"))), scan("r", "x", same(1, 2, out(1))), out(4)]
@@ -235,14 +244,16 @@ class SeventhRow(Case16):
             for reader in (each("e", "h", out_of("e", 1)), rise("e", "h", "g", out_of("e", 1)),
                            look("e", "h", [1, 2], out_of("e", 1)), look("e", "h", [7, 7], out_of("e", 1))):
                 self.too_many([fill, deep(3, reader, 4)], HELD)
-            self.too_many([fill, each("e", "h", each("f", "h", put("out", [1], [times(1, of("e", "s"), of("f", "s"))])))],
+            self.too_many([fill, each("e", "h", each("f", "h",
+                put("out", [1], [times(1, of("e", "s"), of("f", "s"))])))],
                           HELD)
         self.too_many([deep(7, put("h", [1, 2], [])), each("e", "h", out_of("e", 1))], HELD)
 
     def test_through_another_block(self):
         for many, clash in ((4, 1), (4, 2), (3, 1), (3, 2)):
             body = [deep(3, same(1, clash, put("h", [1, 2], []))),
-                    deep(many, each("e", "h", put("o", [1], [times(1, of("e", "s"))])), 3), each("e", "o", out_of("e", 1))]
+                    deep(many, each("e", "h", put("o", [1], [times(1, of("e", "s"))])), 3),
+                        each("e", "o", out_of("e", 1))]
             blocks = (HELD, ("o", ("j",), ("s",)))
             if many == 4:
                 self.too_many(body, *blocks)
@@ -331,7 +342,10 @@ class Plain(Case):
                 self.plain(False, body)
 
     def test_an_answer_without_keys(self):
-        self.plain(True, [scan("r", "t", scan("s", "t", out())), out(), seek("r", "t", "a", 5, out())], many=0)
+        body = [scan("r", "t", scan("s", "t", out())), out(), seek("r", "t", "a", 5, out())]
+        self.plain(True, body, many=0)
+        self.plain(True, body, HELD, many=0)
+        self.plain(False, [out(5)], ("h", (), ("s",)))
 
     def test_empty_nests_count_for_nothing(self):
         self.plain(True, [scan("r", "t", scan("s", "t", same(1, 2, out(3)))), scan("r", "t", out(of("r", "b")))])
@@ -347,8 +361,10 @@ class Deciding(Case):
         self.decides((("row", 0),), [scan("r", "t", scan("s", "u", inner))])
         self.decides((("row", 0),), [scan("s", "u", scan("r", "t", inner))])
         self.decides((("value", "b"), ("row", 0)), [by("r", "t", "b", scan("s", "u", inner))])
-        self.assertEqual(deciding(((("t", ("a", "b")), ("u", ("a", "c"))), ("a",), (("row", 0), ("row", 1)))), (("row", 0),))
-        self.assertEqual(deciding(((("t", ("a", "b")), ("u", ("a", "c"))), ("a",), (("value", "b"), ("row", 0), ("row", 1)))),
+        self.assertEqual(deciding(((("t", ("a", "b")), ("u", ("a", "c"))), ("a",), (("row", 0), ("row", 1)))),
+            (("row", 0),))
+        self.assertEqual(deciding(((("t", ("a", "b")), ("u", ("a", "c"))), ("a",),
+            (("value", "b"), ("row", 0), ("row", 1)))),
                          (("value", "b"), ("row", 0)))
 
     def test_a_row_that_leads_to_the_group(self):
@@ -360,7 +376,8 @@ class Deciding(Case):
     def test_values(self):
         self.decides((("value", "a"),), [by("r", "t", "a", out(of("r", "a")))])
         self.decides((("value", "a"), ("row", 0)), [by("r", "t", "a", out(of("r", "b")))])
-        self.decides((("row", 0),), [scan("r", "t", by("s", "u", "a", same(of("s", "a"), of("r", "a"), out(of("r", "a")))))])
+        self.decides((("row", 0),), [scan("r", "t", by("s", "u", "a",
+            same(of("s", "a"), of("r", "a"), out(of("r", "a")))))])
 
     def test_given_values_decide_nothing(self):
         self.decides((("row", 0),), [by("r", "t", "a", same(of("r", "a"), 5, out(of("r", "b"))))])
@@ -395,7 +412,8 @@ class Staying(Case):
     def test_covered_by_one_ahead(self):
         self.stay((0,), [self.FREE, self.NARROW])
         self.stay((0,), [self.FREE, self.FREE, by("r", "t", "a", out(of("r", "b")))])
-        self.stay((0, 1), [scan("r", "x", out(of("r", "b"))), self.FREE, self.NARROW, scan("r", "x", out(of("r", "b")))])
+        self.stay((0, 1), [scan("r", "x", out(of("r", "b"))), self.FREE, self.NARROW,
+            scan("r", "x", out(of("r", "b")))])
 
     def test_not_covered_by_one_behind(self):
         self.stay((0, 1), [self.NARROW, self.FREE])

@@ -14,7 +14,8 @@ from support import Case, anything
 
 BIG = 10 ** 9
 SHAPE = Shape((("t", ("a", "b")), ("u", ("c",)), ("w", ("d", "e", "f", "g"))))
-STORE = Store(SHAPE, {"t": [(1, 2), (1, 3), (2, 2), (1, 2)], "u": [(1,), (2,), (5,)], "w": [(1, 1, 2, 2), (1, 2, 1, 2)]})
+STORE = Store(SHAPE, {"t": [(1, 2), (1, 3), (2, 2), (1, 2)], "u": [(1,), (2,), (5,)],
+    "w": [(1, 1, 2, 2), (1, 2, 1, 2)]})
 NO_ROWS = Pattern((), (), {})
 
 
@@ -291,7 +292,8 @@ class Pairing(Case):
         self.assertIsNotNone(self.paired(one, one))
         ring = [("t", (left, right)) for left, right in ("xy", "yz", "zp", "px")]
         self.assertIsNotNone(self.paired(Pattern(ring, (), {}), Pattern(ring[2:] + ring[:2], (), {})))
-        self.assertIsNotNone(self.paired(Pattern([("u", ("x",))] * 2, ("x",), {}), Pattern([("u", ("x",))] * 2, ("x",), {})))
+        self.assertIsNotNone(self.paired(Pattern([("u", ("x",))] * 2, ("x",), {}),
+            Pattern([("u", ("x",))] * 2, ("x",), {})))
 
     def test_in_none_though_the_counts_are_alike(self):
         six = [("t", (left, right)) for left, right in ("ab", "bc", "cd", "de", "ef", "fa")]
@@ -396,6 +398,14 @@ class Maps(Case):
     def test_powers_are_not_looked_at(self):
         rows = [("t", ("x", "y"))]
         self.assertEqual(self.mapped(Pattern(rows, (), {"x": 3}), Pattern(rows, (), {"y": 2})), (0,))
+
+    def test_tables(self):
+        one, other = Pattern([("t", ("x", "y"))], (), {}), Pattern([("v", ("x", "y"))], (), {})
+        self.assertIsNone(self.mapped(one, other))
+        both = Pattern([("v", ("x", "y")), ("t", ("x", "y"))], (), {})
+        self.assertEqual(self.mapped(one, both), (1,))
+        self.assertIsNone(self.mapped(both, one))
+        self.assertIsNone(self.mapped(one, Pattern([("t", ("x", "y", "z"))], (), {})))
 
     def test_later_rows_may_ask_for_another_choice(self):
         path = Pattern([("t", ("x", "y")), ("t", ("y", "z")), ("t", ("z", 9))], (), {})

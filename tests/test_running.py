@@ -147,7 +147,8 @@ class Sums(Running):
         blocks = [(name, ("g",), ("s",)) for name in ("ha", "hb", "hc")]
         body = [scan("r", "t", put("ha", [of("r", "a")], [times(1, of("r", "b"))]))]
         for inner, outer in (("ha", "hb"), ("hb", "hc"), ("hc", "out")):
-            body.append(each("e", inner, put(outer, [of("e", "g")], [times(-2, of("e", "s"), of("e", "s"), of("e", "g"))])))
+            body.append(each("e", inner, put(outer, [of("e", "g")],
+                [times(-2, of("e", "s"), of("e", "s"), of("e", "g"))])))
         worth = {3: 4, 1: 7, 2: 4}
         for key in worth:
             for _ in range(3):
@@ -210,7 +211,8 @@ class TooManyTurns(Running):
             rise("x", "h", "g", put("out", [1], [])), look("x", "h", [7], put("out", [1], [])))
 
     def made(self, *last):
-        return Program(SHAPE, self.BLOCKS, [self.FIRST, scan("r", "t", scan("s", "u", put("out", [0], [times(1)]))), *last])
+        return Program(SHAPE, self.BLOCKS, [self.FIRST, scan("r", "t", scan("s", "u", put("out", [0], [times(1)]))),
+            *last])
 
     def store(self, many):
         return Store(SHAPE, {"t": [(0, 0)] * many, "u": [(0,)] * 99, "w": [(5,)]})

@@ -21,7 +21,9 @@ def is_right_part(nests, others, thing):
     if thing.__class__ is not tuple or len(thing) != len(nests):
         return False
     for (rows, group, _), part in zip(nests, thing):
-        if part.__class__ is not tuple or len(part) != 2 or part[0].__class__ is not int or part[1].__class__ is not tuple:
+        if part.__class__ is not tuple or len(part) != 2 or part[0].__class__ is not int:
+            return False
+        if part[1].__class__ is not tuple:
             return False
         if not 0 <= part[0] < len(others) or not all([at.__class__ is int for at in part[1]]):
             return False
@@ -84,8 +86,10 @@ class Same(Keys):
     def test_loops_of_each_kind(self):
         fill = scan("r", "t", put("h", [of("r", "a")], [times(1)]))
         add = [times(1, of("e", "s"))]
-        for body in ([by("r", "t", "b", out(of("r", "a")))], [scan("q", "t", seek("r", "t", "a", of("q", "a"), out(of("r", "a"))))],
-                     [fill, each("e", "h", out(of("e", "g"), adds=add))], [fill, rise("e", "h", "g", out(of("e", "g"), adds=add))],
+        for body in ([by("r", "t", "b", out(of("r", "a")))], [scan("q", "t",
+            seek("r", "t", "a", of("q", "a"), out(of("r", "a"))))],
+                     [fill, each("e", "h", out(of("e", "g"), adds=add))],
+                         [fill, rise("e", "h", "g", out(of("e", "g"), adds=add))],
                      [fill, scan("q", "t", look("e", "h", [of("q", "a")], out(of("q", "a"), adds=add)))]):
             self.are_same(made([FREE]), made(body, *[HELD] * (len(body) - 1)))
 
@@ -128,7 +132,8 @@ class Unlike(Keys):
         store = self.are_unlike(made([scan("r", "t", out(of("r", "a")))]), made([
             seek("r", "t", "a", value, out(of("r", "a"))) for value in range(1, 11)]))
         self.assertTrue(all([row[0] > 10 or row[0] < 1 for row in store.rows_of("t")]))
-        self.are_unlike(made([seek("r", "t", "a", 3, out(of("r", "b")))]), made([seek("r", "t", "a", 4, out(of("r", "b")))]))
+        self.are_unlike(made([seek("r", "t", "a", 3, out(of("r", "b")))]),
+            made([seek("r", "t", "a", 4, out(of("r", "b")))]))
         self.are_unlike(made([scan("r", "t", out(of("r", "a"), of("r", "a")))], many=2),
                         made([scan("r", "t", out(of("r", "a"), of("r", "b")))], many=2))
 
@@ -153,7 +158,8 @@ class Papers(Keys):
         turned = made([scan("s", "y", scan("r", "x", out(of("s", "b"))))])
         self.only_paper(two, turned, (((0, (1, 0)),), ((0, (1, 0)),)))
         for thing in ((((0, (True, 0)),), ((0, (1, 0)),)), (((0, (1, False)),), ((0, (1, 0)),)),
-                      (((False, (1, 0)),), ((0, (1, 0)),)), (((0, (1, 0)),), ((0, [1, 0]),)), [((0, (1, 0)),), ((0, (1, 0)),)],
+                      (((False, (1, 0)),), ((0, (1, 0)),)), (((0, (1, 0)),), ((0, [1, 0]),)),
+                          [((0, (1, 0)),), ((0, (1, 0)),)],
                       (((0, (1, 0)),), [(0, (1, 0))]), (((0, (1, 0)),), ([0, (1, 0)],))):
             self.assertIs(is_keys_paper(two, turned, thing), False)
 

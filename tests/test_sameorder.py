@@ -43,7 +43,8 @@ class Order(Pairs):
 
 class OneLoop(Order):
     def test_each_kind_against_each_other(self):
-        bodies = {"scan": T, "run a": by("r", "t", "a", out(of("r", "a"))), "run b": by("r", "t", "b", out(of("r", "a")))}
+        bodies = {"scan": T, "run a": by("r", "t", "a", out(of("r", "a"))),
+            "run b": by("r", "t", "b", out(of("r", "a")))}
         for one in bodies:
             for other in bodies:
                 if one == other:
@@ -66,7 +67,8 @@ class OneLoop(Order):
 
     def test_a_run_by_what_is_held(self):
         fill = by("r", "t", "b", put("h", [of("r", "a")], [times(1)]))
-        self.are_same(made([fill, each("e", "h", of_e(of("e", "g")))], HELD), made([by("r", "t", "b", out(of("r", "a")))]))
+        self.are_same(made([fill, each("e", "h", of_e(of("e", "g")))], HELD),
+            made([by("r", "t", "b", out(of("r", "a")))]))
         self.are_turned(made([fill, each("e", "h", of_e(of("e", "g")))], HELD), made([T]))
 
     def test_what_decides_nothing(self):
@@ -123,7 +125,8 @@ class TwoLoops(Order):
         self.are_same(one, made([scan("r", "t", seek("s", "u", "a", of("r", "a"), out(of("r", "b"))))]))
         fill = scan("s", "u", put("h", [of("s", "a")], [times(1)]))
         self.are_same(one, made([fill, scan("r", "t", look("e", "h", [of("r", "a")], of_e(of("r", "b"))))], HELD))
-        self.are_same(one, made([fill, scan("r", "t", each("e", "h", same(of("e", "g"), of("r", "a"), of_e(of("r", "b")))))], HELD))
+        self.are_same(one, made([fill, scan("r", "t", each("e", "h",
+            same(of("e", "g"), of("r", "a"), of_e(of("r", "b")))))], HELD))
         self.are_turned(one, made([fill, each("e", "h", seek("r", "t", "a", of("e", "g"), of_e(of("r", "b"))))], HELD))
         self.are_turned(made([fill, rise("e", "h", "g", seek("r", "t", "a", of("e", "g"), of_e(of("r", "b"))))], HELD),
                         made([fill, each("e", "h", seek("r", "t", "a", of("e", "g"), of_e(of("r", "b"))))], HELD))
@@ -170,7 +173,8 @@ class SeveralNests(Order):
         self.only_paper(made([X, X, Y]), made([X, Y]), ((0, 0, (0,)), (2, 1, (0,))))
         self.are_turned(made([narrow, X]), made([X]))
         self.are_turned(made([narrow, X, Y]), made([narrow, Y, X]))
-        self.only_paper(made([narrow, X, Y]), made([narrow, X, Y, narrow]), ((0, 0, (0, 1)), (1, 1, (0,)), (2, 2, (0,))))
+        self.only_paper(made([narrow, X, Y]), made([narrow, X, Y, narrow]),
+            ((0, 0, (0, 1)), (1, 1, (0,)), (2, 2, (0,))))
         turned = scan("r", "y", seek("s", "x", "b", of("r", "b"), out(of("r", "b"))))
         self.are_turned(made([narrow, X, Y]), made([turned, X, Y]))
 
@@ -202,11 +206,14 @@ class GivenValues(Order):
         self.are_unlike(one, made([scan("r", "t", out(of("r", "b")))]))
         for value in (1, 2, 3, 4):
             self.are_turned(made([seek("r", "w", "d", value, out(of("r", "e"), of("r", "f")))], many=2),
-                            made([by("r", "w", "f", same(value, of("r", "d"), out(of("r", "e"), of("r", "f"))))], many=2))
+                            made([by("r", "w", "f", same(value, of("r", "d"), out(of("r", "e"), of("r", "f"))))],
+                                many=2))
 
     def test_in_keys(self):
-        self.are_same(made([scan("r", "x", out(of("r", "b"), 5))], many=2), made([scan("r", "x", out(of("r", "b"), 5))], many=2))
-        self.are_unlike(made([scan("r", "x", out(of("r", "b"), 5))], many=2), made([scan("r", "x", out(of("r", "b"), 6))], many=2))
+        self.are_same(made([scan("r", "x", out(of("r", "b"), 5))], many=2),
+            made([scan("r", "x", out(of("r", "b"), 5))], many=2))
+        self.are_unlike(made([scan("r", "x", out(of("r", "b"), 5))], many=2),
+            made([scan("r", "x", out(of("r", "b"), 6))], many=2))
         five, six = scan("r", "x", out(of("r", "b"), 5)), scan("r", "x", out(of("r", "b"), 6))
         self.are_turned(made([five, six], many=2), made([six, five], many=2))
 
@@ -226,6 +233,12 @@ class NoKeys(Order):
         self.only_paper(made([out()], many=0), made([out()], many=0), (((0, ()),), ((0, ()),)))
         none = made([same(1, 2, out())], many=0)
         self.only_paper(none, none, ((), ()))
+
+    def test_each_right_paper_is_judged_right(self):
+        one = made([scan("r", "t", scan("s", "t", out()))], many=0)
+        for places in ((0, 0), (0, 1), (1, 0), (1, 1)):
+            self.assertIs(is_order_paper(one, one, (((0, places),), ((0, (1, 1)),))), True)
+            self.assertIs(is_order_paper(one, one, (((0, places),), ((0, (1, 2)),))), False)
 
     def test_nothing_need_be_plain(self):
         self.are_same(made([seek("r", "x", "b", 5, out()), scan("r", "x", scan("s", "y", out()))], many=0),
@@ -251,8 +264,10 @@ class Errors(Order):
             self.all_raise(NotPlain, [3], made([X, X, X, wrong]), made(body))
 
     def test_each_condition(self):
-        for inner in (out(5), scan("r", "t", out(5)), scan("r", "x", scan("s", "x", same(of("r", "b"), of("s", "b"), out(of("r", "b"))))),
-                      scan("r", "x", seek("s", "y", "b", 5, out(of("r", "b")))), seek("r", "x", "b", 5, out(of("r", "b")))):
+        for inner in (out(5), scan("r", "t", out(5)), scan("r", "x",
+            scan("s", "x", same(of("r", "b"), of("s", "b"), out(of("r", "b"))))),
+                      scan("r", "x", seek("s", "y", "b", 5, out(of("r", "b")))),
+                          seek("r", "x", "b", 5, out(of("r", "b")))):
             self.all_raise(NotPlain, [0], made([inner]), made([X]))
             self.all_raise(NotPlain, [1], made([X]), made([Y, inner]))
 
@@ -288,7 +303,8 @@ class Drawn(Order):
         source = random.Random(26)
         found = []
         while len(found) < 700:
-            one = chance.program(source, keys=source.choice((1, 1, 2)), tame=True, givens=source.random() < 0.3, shape=self.SHAPE)
+            one = chance.program(source, keys=source.choice((1, 1, 2)), tame=True, givens=source.random() < 0.3,
+                shape=self.SHAPE)
             other = one
             for _ in range(source.choice((1, 2, 3, 4))):
                 other = chance.changed(source, other)

@@ -15,7 +15,8 @@ from support import Case, anything, by, each, look, of, put, rise, same, scan, s
 
 SHAPE = Shape((("t", ("a", "b")), ("u", ("a", "c")), ("w", ("d", "e", "f", "g")), ("x", ("b",))))
 HELD = ("h", ("g",), ("s", "t", "u"))
-FILL = scan("r", "t", put("h", [of("r", "a")], [times(1, of("r", "b"))], [times(1, of("r", "b"), of("r", "b")), times(3)],
+FILL = scan("r", "t", put("h", [of("r", "a")], [times(1, of("r", "b"))],
+    [times(1, of("r", "b"), of("r", "b")), times(3)],
                           [times(1), times(-1, of("r", "a"))]))
 
 
@@ -111,7 +112,8 @@ class Products(Case18):
     def test_other_sums_of_the_answer(self):
         program = Program(SHAPE, (("out", (), ("n", "m", "o")),), [scan("r", "x", put(
             "out", [], [times(2)], [], [times(3, of("r", "b")), times(4)]))])
-        self.assertEqual([[multiple for multiple, _ in sum_patterns(program, at)] for at in range(3)], [[2], [], [3, 4]])
+        self.assertEqual([[multiple for multiple, _ in sum_patterns(program, at)] for at in range(3)],
+            [[2], [], [3, 4]])
 
 
 class Gathered(Case18):
@@ -136,7 +138,8 @@ class Gathered(Case18):
             scan("p", "x", out(times(7, of("p", "b"))))])
 
     def test_groups_and_powers_keep_apart(self):
-        self.told([(1, "t ab", "a", {}), (1, "t ab", "b", {}), (1, "t ab", "a", {"a": 1}), (1, "t ab", "a", {"b": 1})], [
+        self.told([(1, "t ab", "a", {}), (1, "t ab", "b", {}), (1, "t ab", "a", {"a": 1}),
+            (1, "t ab", "a", {"b": 1})], [
             scan("r", "t", out(times(1), at=[of("r", "a")])), scan("r", "t", out(times(1), at=[of("r", "b")])),
             scan("r", "t", out(times(1, of("r", "a")), times(1, of("r", "b")), at=[of("r", "a")]))])
 
@@ -159,7 +162,8 @@ class Entries(Case18):
 
     def test_the_given_values_of_a_held_block(self):
         fill = seek("r", "t", "a", 4, put("h", [of("r", "a")], [times(1, of("r", "a"), of("r", "b"))], [], []))
-        self.told([(4 * 4 * 3, "t 4a, u 4b", "b", {"a": 1})], [fill, each("e", "h", seek("q", "u", "a", of("e", "g"), out(
+        self.told([(4 * 4 * 3, "t 4a, u 4b", "b", {"a": 1})],
+            [fill, each("e", "h", seek("q", "u", "a", of("e", "g"), out(
             times(3, of("e", "s"), of("e", "g")), at=[of("q", "c")])))], HELD)
         self.told([], [fill, look("e", "h", [5], out(times(1, of("e", "s"))))], HELD)
 
@@ -215,7 +219,8 @@ class Entries(Case18):
                   [FILL, more, each("f", "o", out(times(1, of("f", "v"), of("f", "v"))))], HELD, ("o", ("j",), ("v",)))
 
     def test_what_cancels_in_a_block_is_left_out_there(self):
-        fill = scan("r", "t", put("h", [of("r", "a")], [times(1, of("r", "b")), times(-1, of("r", "b"))], [times(1)], []))
+        fill = scan("r", "t", put("h", [of("r", "a")], [times(1, of("r", "b")), times(-1, of("r", "b"))], [times(1)],
+            []))
         for factors in ([of("e", "s")], [of("e", "s"), of("e", "t")], [of("e", "t"), of("e", "s")], [of("e", "u")]):
             self.told([], [fill, each("e", "h", out(times(1, *factors)))], HELD)
         self.told([(1, "t ab", "0", {})], [fill, each("e", "h", out(times(1, of("e", "t"))))], HELD)
@@ -293,7 +298,8 @@ class Limits(Case18):
         many12 = times(1, of("e", "s"), of("e", "u"))
         sixty = [self.fill_of_eleven(), each("e", "h", out(many48, many12))]
         self.assertEqual(len(self.patterns(sixty, HELD)), 60)
-        self.assertEqual(len(self.patterns([*sixty, each("e", "h", out(times(1, of("e", "u"), of("e", "s"))))], HELD)), 60)
+        self.assertEqual(len(self.patterns([*sixty, each("e", "h", out(times(1, of("e", "u"), of("e", "s"))))],
+            HELD)), 60)
         self.too_many([*sixty, out(times(1))], HELD)
         self.too_many([out(times(1)), *sixty], HELD)
         # Those that come to 0 stand in the list, too, until the end.
@@ -306,7 +312,8 @@ class Limits(Case18):
 
     def test_sixty_one_in_a_sum_that_is_used(self):
         full = each("e", "h", put("o", [1], [times(1, of("e", "s"), of("e", "t"), of("e", "u")),
-                                             times(1, of("e", "s"), of("e", "u")), times(1, of("e", "s"))], [times(1, of("e", "u"))]))
+                                             times(1, of("e", "s"), of("e", "u")), times(1, of("e", "s"))],
+                                                 [times(1, of("e", "u"))]))
         blocks = (HELD, ("o", ("j",), ("v", "z")))
         self.too_many([self.fill_of_eleven(), full, each("f", "o", out(times(1, of("f", "v"))))], *blocks)
         self.assertEqual(len(self.patterns([self.fill_of_eleven(), full, each("f", "o", out(times(1, of("f", "z"))))],
