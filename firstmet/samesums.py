@@ -154,7 +154,8 @@ class Parting:
             add_to(polynomial, Count(pattern, self.leading.group, self.unlike_rows, images).told(), multiple)
         numbers = []
         for at in range(len(self.unlike_rows)):
-            many = 1
+            # A row that can be left out is left out: so runs are short where they can be.
+            many = 0
             while put_in(polynomial, at, many) == {}:
                 many += 1
             polynomial = put_in(polynomial, at, many)

@@ -381,6 +381,7 @@ class Deciding(Case):
 
     def test_given_values_decide_nothing(self):
         self.decides((("row", 0),), [by("r", "t", "a", same(of("r", "a"), 5, out(of("r", "b"))))])
+        self.decides((("row", 0),), [by("r", "t", "a", same(of("r", "a"), 5, out(of("r", "a"), of("r", "b"))))], many=2)
 
     def test_what_is_behind_a_known_unknown(self):
         # u hangs together with the group by an unknown alone that is known once the row of t is.

@@ -289,7 +289,7 @@ class Parted(Sums):
     def drawn(self, source, letters):
         rows = []
         for _ in range(source.choice((0, 1, 2, 3, 4, 5, 6, 6))):
-            table, width = source.choice((("t", 2), ("t", 2), ("x", 1)))
+            table, width = source.choice((("t", 2), ("t", 2), ("u", 2), ("x", 1)))
             rows.append((table, [source.choice(letters) for _ in range(width)]))
         unknowns = sorted({symbol for _, symbols in rows for symbol in symbols if isinstance(symbol, str)})
         powers = {unknown: source.choice((1, 2, 3, 100)) for unknown in unknowns if source.random() < 0.5}
@@ -298,7 +298,7 @@ class Parted(Sums):
     def test_drawn_patterns(self):
         """Patterns of up to six rows, with great powers and given values: the store that is told gives no sum 0."""
         source = random.Random(22)
-        shape = Shape((("t", ("a", "b")), ("x", ("b",))))
+        shape = Shape((("t", ("a", "b")), ("x", ("b",)), ("u", ("a", "c"))))
         for _ in range(400):
             letters = [*"abcdefghijkl"[:source.choice((1, 2, 3, 6, 12))], *source.choice(((), (1, 5)))]
             patterns = []
@@ -311,7 +311,7 @@ class Parted(Sums):
                 if all([pairing(pattern, other) is None for _, other in patterns]):
                     patterns.append((source.choice((1, -1, 2, -3)), pattern))
             store = Parting(patterns, [1, 2, 5, 7]).told_store(shape)
-            self.assertLessEqual(len(store.rows_of("t")) + len(store.rows_of("x")), 300)
+            self.assertLessEqual(sum([len(store.rows_of(table)) for table, _ in shape.tables]), 300)
             told = {}
             for multiple, pattern in patterns:
                 found = ways(pattern, store)
