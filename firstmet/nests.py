@@ -81,7 +81,7 @@ class Walk:
     """The way inwards to a put: a draft of the rows met so far, and the marks of what stands for the variables."""
 
     def __init__(self, program):
-        self.program = program
+        self.code = program
         self.draft = Draft()
         # From each variable to the dict from its fields or keys to their marks.
         self.around = {}
@@ -101,7 +101,7 @@ class Walk:
     def meet_row(self, statement):
         """Go into a scan, run or seek."""
         kind, v, table = statement[:3]
-        fields = self.program.shape.fields_of(table)
+        fields = self.code.shape.fields_of(table)
         self.around[v] = dict(zip(fields, self.draft.new_row(table, len(fields))))
         if kind == "seek":
             self.draft.make_one(self.around[v][statement[3]], self.mark(statement[4]))
@@ -111,7 +111,7 @@ class Walk:
         kind, v, block = statement[:3]
         for group in groups[1:]:
             self.make_all_one(groups[0], group)
-        keys, _ = fields_of_block(self.program, block)
+        keys, _ = fields_of_block(self.code, block)
         self.around[v] = dict(zip(keys, groups[0]))
         if kind == "look":
             self.make_all_one(groups[0], [self.mark(term) for term in statement[3]])
@@ -126,18 +126,18 @@ class NestMaker:
     """Makes the nests of the puts of a program: tuples (rows, group, word), each with whether it is empty."""
 
     def __init__(self, program):
-        self.program = program
+        self.code = program
         self._made = {}
 
     def nests_of_block(self, block):
         """The list of the nests of the block's puts, in the order of their top statements."""
         if block not in self._made:
-            self._made[block] = [self.nest_of(path) for path in paths_to(self.program.body, block)]
+            self._made[block] = [self.nest_of(path) for path in paths_to(self.code.body, block)]
         return self._made[block]
 
     def nest_of(self, path):
         """The nest of the put at the end of the path."""
-        walk = Walk(self.program)
+        walk = Walk(self.code)
         word = []
         empty = False
         for statement in path[:-1]:

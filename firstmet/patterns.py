@@ -92,7 +92,7 @@ class Ways:
 
     def __init__(self, pattern, store):
         self.pattern = pattern
-        self.answer = {}
+        self.totals = {}
         self.many = 0
         self._steps = [step_of(pattern, at, store) for at in range(len(pattern.rows))]
 
@@ -100,7 +100,7 @@ class Ways:
         """Go through all ways whose rows ahead of this index are taken; worth is what their powers come to so far."""
         if at == len(self._steps):
             key = tuple([images.get(symbol, symbol) for symbol in self.pattern.group])
-            self.answer[key] = self.answer.get(key, 0) + worth
+            self.totals[key] = self.totals.get(key, 0) + worth
             return
         symbols = self.pattern.rows[at][1]
         places, found = self._steps[at]
@@ -148,7 +148,7 @@ def ways(pattern, store):
         raise BadStore(store)
     found = Ways(pattern, store)
     found.go_through(0, {}, 1)
-    return found.answer
+    return found.totals
 
 
 def fits(pattern, shape):

@@ -14,7 +14,7 @@ class Run:
     """
 
     def __init__(self, program, store):
-        self.store = store
+        self.data = store
         self.blocks = {name: (fields, sums) for name, fields, sums in program.blocks}
         # From each block to a dict from its keys, in the order in which they were first put, to the lists of sums.
         self.entries = {name: {} for name in self.blocks}
@@ -101,8 +101,8 @@ class Run:
         """The same, made for the first time."""
         if name in self.entries:
             return [self.entry(name, key) for key in self.entries[name]]
-        fields = self.store.shape.fields_of(name)
-        return [dict(zip(fields, row)) for row in self.store.rows_of(name)]
+        fields = self.data.shape.fields_of(name)
+        return [dict(zip(fields, row)) for row in self.data.rows_of(name)]
 
     def entry(self, block, key):
         """The entry with this key, which is in the block."""
@@ -157,8 +157,13 @@ def trace(program, store):
 
 def whole_run(program, store):
     """The run of the program, once it is known that both arguments are right."""
+    check_run(program, store)
+    return Run(program, store)
+
+
+def check_run(program, store):
+    """Raise an error if this is no program, or no store of its shape."""
     if not isinstance(program, Program):
         raise BadProgram(program)
     if not isinstance(store, Store) or store.shape != program.shape:
         raise BadStore(store)
-    return Run(program, store)

@@ -41,14 +41,14 @@ class SumMaker:
     """Makes the sum patterns of the sums of a program's blocks."""
 
     def __init__(self, program):
-        self.program = program
+        self.code = program
         self._made = {}
 
     def patterns_of(self, block, at):
         """The list of the sum patterns of the sum of the block with this index."""
         if (block, at) not in self._made:
             gathering = Gathering()
-            for path in paths_to(self.program.body, block):
+            for path in paths_to(self.code.body, block):
                 _, _, _, adds = path[-1]
                 for product in adds[at]:
                     self.gather_product(path, product, gathering)
@@ -76,7 +76,7 @@ class SumMaker:
         found = []
         for _, v, name in product[1]:
             if v in blocks:
-                _, sums = fields_of_block(self.program, blocks[v])
+                _, sums = fields_of_block(self.code, blocks[v])
                 if name in sums:
                     found.append((v, blocks[v], sums.index(name)))
         return found
@@ -86,7 +86,7 @@ class SumMaker:
 
         A choice is a list of tuples of what sums_in tells of a sum and one of its sum patterns.
         """
-        walk = Walk(self.program)
+        walk = Walk(self.code)
         powers = []
         worth, factors = product
         for statement in path[:-1]:
