@@ -23,11 +23,13 @@ def asks_of(source, many, tame, givens, shape):
         parts = []
         around = {}
         met = []
-        for v in ("p", "q", "r")[:source.choice((1, 1, 2, 2, 3))]:
+        # Asks over one table alone are those of which passes can be fused.
+        narrow = len(asks) < many - 1 and source.random() < 0.5
+        for v in ("p", "q", "r")[:1 if narrow else source.choice((1, 1, 2, 2, 3))]:
             free = [part for part in fields if not tame or not set(tables[part]) & set(met)]
             free += [ask[0] for ask in asks if ask[0] in free] * 3
             if free:
-                part = source.choice(free)
+                part = shape.tables[0][0] if narrow else source.choice(free)
                 parts.append((v, part))
                 around[v] = fields[part]
                 met += tables[part]

@@ -130,6 +130,32 @@ class Language(unittest.TestCase):
                     self.assertEqual(len(set(methods)), len(methods), name)
                     self.assertEqual(set(attributes) & set(METHODS) - {"count", "index", "find", "get", "copy"}, set())
 
+    def test_no_name_is_a_method_here_and_an_attribute_there(self):
+        nodes = [node for _, tree in trees() for node in ast.walk(tree)]
+        methods = [function.name for node in nodes if isinstance(node, ast.ClassDef)
+                   for function in node.body if isinstance(function, ast.FunctionDef)]
+        attributes = [node.attr for node in nodes
+                      if isinstance(node, ast.Attribute) and isinstance(node.ctx, ast.Store)]
+        self.assertEqual(set(methods) & set(attributes), set())
+
+    def test_properties_just_tell_what_is_kept(self):
+        for name, tree in trees():
+            for function in functions(tree):
+                for decorator in function.decorator_list:
+                    self.assertEqual(decorator.id, "property", name)
+                    told = function.body[-1]
+                    self.assertIsInstance(told, ast.Return, name)
+                    self.assertIsInstance(told.value, ast.Attribute, name)
+                    self.assertEqual(len(function.body), 2, name)
+
+    def test_finally_just_assigns_what_was_kept(self):
+        for name, tree in trees():
+            for node in ast.walk(tree):
+                for statement in node.finalbody if isinstance(node, ast.Try) else []:
+                    self.assertIsInstance(statement, ast.Assign, name)
+                    called = [part for part in ast.walk(statement) if isinstance(part, (ast.Call, ast.Subscript))]
+                    self.assertEqual(called, [], name)
+
     def test_what_is_to_be_gone_through_at_once_is_not_stored(self):
         for name, tree in trees():
             for node in ast.walk(tree):

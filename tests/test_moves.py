@@ -11,8 +11,8 @@ from firstmet.moves import is_right, moved, moves_of
 from firstmet.programs import Program
 from firstmet.running import run
 from firstmet.tables import Shape
-from pairs import HELD, SHAPE, deep, made, out
-from support import SALES, Case, anything, by, each, look, nested, of, put, rise, same, scan, seek, times
+from pairs import HELD, deep, made, out
+from support import SALES, Case, anything, by, each, look, of, put, rise, same, scan, seek, times
 
 FILL = scan("q", "x", put("h", [of("q", "b")], [times(1)]))
 KINDS = ["out", "turn", "seek", "scan", "swap", "fuse", "drop", "hold"]
