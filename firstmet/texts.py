@@ -9,9 +9,8 @@ from firstmet.tables import Shape
 DIGITS = "0123456789"
 MOST_DIGITS = 12
 
-# How many names, and then how many terms, stand behind the word of a statement; a look has terms as it has keys.
-FORMS = {"scan": (2, 0), "run": (3, 0), "seek": (3, 1), "each": (2, 0), "rise": (3, 0), "look": (2, -1),
-         "same": (0, 2)}
+# How many names, and then how many terms, stand behind the word of a statement; a look may have any number of terms.
+FORMS = {"scan": (2, 0), "run": (3, 0), "seek": (3, 1), "each": (2, 0), "rise": (3, 0), "look": (2, 0), "same": (0, 2)}
 
 
 def write_program(program):
@@ -159,8 +158,8 @@ def are_words(words):
 
 
 def read_table(words):
-    """The table that the words tell, None if they are not so written."""
-    if len(words) < 3 or words[0] != "table" or not are_words(words[1:]):
+    """The table that the words of its row tell, None if they are not so written."""
+    if len(words) < 3 or not are_words(words[1:]):
         return None
     return (words[1], tuple(words[2:]))
 
@@ -196,14 +195,14 @@ def read_head(words):
     """The statement with a body that the words tell, without its body, None if they are not so written."""
     if words[0] not in FORMS:
         return None
-    many, most = FORMS[words[0]]
+    many, more = FORMS[words[0]]
     names = words[1:many + 1]
     terms = read_terms(words[many + 1:])
     if len(names) < many or not are_words(names) or terms is None:
         return None
     if words[0] == "look":
         return ("look", *names, terms)
-    return (words[0], *names, *terms) if len(terms) == most else None
+    return (words[0], *names, *terms) if len(terms) == more else None
 
 
 def read_put(words):

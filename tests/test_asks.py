@@ -150,6 +150,9 @@ class Wrong(Case):
         for thing in ([], [("s", "t"), ("p", "u"), ("q", "x"), ("r", "x")], [["s", "t"], ("p", "u")], [("s", "t", 1)],
                       [("s",), ("p", "u")], [("s", "t"), None], "st", {"s": "t"}):
             self.is_wrong(with_part(PAID, 1, thing))
+        for thing in ([], ()):
+            self.is_wrong(with_part(COUNT, 1, thing))
+        self.is_wrong(with_part(COUNT, 4, ()))
         for v in (None, "", "abcdefghi", "A", 1, ("s",), [], True):
             self.is_wrong(with_part(COUNT, 1, [(v, "x")]))
         self.is_wrong(with_part(COUNT, 1, [("s", "x"), ("s", "x")]))

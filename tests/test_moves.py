@@ -389,14 +389,19 @@ class Hold(Moves):
             same(1, 1, look("r", "new", [1], out(1, adds=[times(1, of("r", "s"))])))], ("new", ("a",), ("s",))))
 
     def test_the_variable_stands_in_factors_alone(self):
+        # The field that is sought becomes a key of the entry, so that what comes would be a right program.
+        for field in ("c", "a"):
+            self.refuses_terms(of("r", field))
+
+    def refuses_terms(self, c):
         adds = [times(1, of("r", "c"))]
-        c = of("r", "c")
         for inner in (out(c, adds=adds), same(c, 1, out(1, adds=adds)), same(1, c, out(1, adds=adds)),
                       scan("k", "w", same(of("k", "d"), c, out(1, adds=adds))),
                       seek("k", "w", "d", c, out(1, adds=adds)), scan("k", "w", out(c, adds=adds)),
-                      seek("k", "w", "d", 1, seek("j", "t", "a", c, out(1, adds=adds)))):
+                      seek("k", "w", "d", 1, seek("j", "t", "a", c, out(1, adds=adds))), same(2, c, out(1, adds=adds)),
+                      seek("k", "w", "d", of("q", "b"), scan("j", "t", out(c, adds=adds)))):
             self.is_refused(made([scan("q", "x", seek("r", "u", "a", 1, inner))]), ("hold", (0, 0), "new"), "new")
-        entry = look("e", "h", [of("r", "c")], out(1, adds=[times(1, c, of("e", "s"))]))
+        entry = look("e", "h", [c], out(1, adds=[times(1, of("r", "c"), of("e", "s"))]))
         self.is_refused(made([FILL, scan("q", "x", seek("r", "u", "a", 1, entry))], HELD), ("hold", (1, 0), "new"),
                         "new")
 

@@ -346,6 +346,7 @@ class Shut(Plans):
             paper = self.leaves_alone(shut_paper, self.one, m)
             self.assertIs(paper.__class__, tuple)
             self.assertEqual(len(paper), m + 1)
+            self.assertEqual({row.__class__ for row in paper}, {tuple})
             self.judged_paper(m, paper, True)
             for other in range(13):
                 if other != m:
